@@ -1,0 +1,1 @@
+"""Loanroll: a loan to the cent at any pair of dates."""
