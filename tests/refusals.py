@@ -1,5 +1,7 @@
-"""What the tests share: things of every wrong kind, how a refusal is looked for, entries by chance, and their dues."""
+"""What the tests share: wrong things, refusals, entries by chance, and the document's words gone through day by day."""
 
+from loanroll.counts import Count
+from loanroll.debts import Debt
 from loanroll.entries import Due, Fee, Late, Out, Pay, Rate, Still, Turn
 
 WORDS = ("out", "fee", "turn", "pay", "due", "rate", "late", "still")
@@ -33,22 +35,37 @@ def assert_refused(case, error, deed, *handed):
             case.fail(f"{deed.__name__} told {told!r}, not {error.__name__}")
 
 
-def some_entry(chance, word, days):
-    """An entry of the word on one of the first so many days, with small numbers so that many come together."""
-    day = chance.randrange(days)
+class Tally(Count):
+    """A plain count that keeps how often it was asked."""
+
+    def __init__(self):
+        self.asked = 0
+
+    def upto(self, day):
+        self.asked += 1
+        return Count.upto(self, day)
+
+    def weight(self, a, b):
+        self.asked += 1
+        return Count.weight(self, a, b)
+
+
+def some_entry(chance, word, days, first=0, size=1):
+    """An entry of the word on one of so many days, with numbers so small, but for the size, that many come together."""
+    day = first + chance.randrange(days)
     if word == "fee":
-        return Fee(day, chance.randint(-3, 3))
+        return Fee(day, chance.randint(-3 * size, 3 * size))
     if word == "turn":
         return Turn(day)
     if word in ("rate", "late"):
-        return (Rate if word == "rate" else Late)(day, chance.randrange(500))
+        return (Rate if word == "rate" else Late)(day, chance.randrange(500 * size))
     if word == "still":
         return Still(day, day + 1 + chance.randrange(6))
-    return {"out": Out, "pay": Pay, "due": Due}[word](day, 1 + chance.randrange(20))
+    return {"out": Out, "pay": Pay, "due": Due}[word](day, 1 + chance.randrange(20 * size))
 
 
-def some_entries(chance, many, days, words=WORDS):
-    return [some_entry(chance, chance.choice(words), days) for _ in range(many)]
+def some_entries(chance, many, days, words=WORDS, first=0, size=1):
+    return [some_entry(chance, chance.choice(words), days, first, size) for _ in range(many)]
 
 
 def fallen(rows):
@@ -62,3 +79,96 @@ def fallen(rows):
                 day += 1
             told.append((day, row[2]))
     return told
+
+
+class DayByDay:
+    """The rows of a book's entries, gone through day by day by the words of [4]."""
+
+    def __init__(self, count, grace, rows):
+        self.count = count
+        self.grace = grace
+        self.rows = list(rows)
+        self.still = {day for row in rows if row[0] == "still" for day in range(row[1], row[2])}
+        self.dues = fallen(rows)
+
+    def amounts(self, word, day):
+        return [row[2] for row in self.rows if row[:2] == (word, day)]
+
+    def rate(self, word, day):
+        """That of the latest day, and of several of one day the last told."""
+        told = [(row[1], place, row[2]) for place, row in enumerate(self.rows) if row[0] == word and row[1] <= day]
+        return max(told)[2] if told else 0
+
+    def behind(self, day):
+        asked = sum(amount for fell, amount in self.dues if fell <= day - self.grace)
+        return max(0, asked - sum(row[2] for row in self.rows if row[0] == "pay" and row[1] <= day))
+
+    def charge(self, principal, day):
+        if day in self.still:
+            return 0
+        late = self.rate("late", day) * min(principal, self.behind(day))
+        return self.count.weight(day, day + 1) * (self.rate("rate", day) * principal + late)
+
+    def charges(self, principal, a, b):
+        return sum(self.charge(principal, day) for day in range(a, b))
+
+    def deeds(self, day):
+        return (sum(self.amounts("out", day)), sum(self.amounts("fee", day)), int(("turn", day) in self.rows),
+                sum(self.amounts("pay", day)))
+
+    def accounts(self, last, first=0, ask=None):
+        """Each day's (principal, units) from the first one on, ahead of which nothing was done.
+
+        ask is told the day, the principal and the units, and tells what is paid then besides.
+        """
+        unit = self.count.unit()
+        principal = units = 0
+        told = []
+        for day in range(first, last + 1):
+            lent, fees, turned, paid = self.deeds(day)
+            principal, units = capped(unit, principal + lent, units + unit * lent)
+            principal, units = capped(unit, principal, units + unit * fees)
+            if turned:
+                principal = max(0, units // unit)
+            principal, units = capped(unit, principal, units - unit * paid)
+            more = ask(day, principal, units) if ask else 0
+            if more:
+                self.rows.append(("pay", day, more))
+                principal, units = capped(unit, principal, units - unit * more)
+            told.append((principal, units))
+            units += self.charge(principal, day)
+        return told
+
+
+def capped(unit, principal, units):
+    return min(principal, max(0, units // unit)), units
+
+
+def asked_by_words(kind, given, principal, owed, left):
+    """What a plan asks, by the words of [50]."""
+    owed = max(0, owed)
+    if left == 1:
+        return owed
+    if kind == "plain":
+        return owed - principal
+    if kind == "parts":
+        whole, over = divmod(principal, left)
+        return owed - principal + whole + (1 if over else 0)
+    if kind == "even":
+        wish = given
+    else:
+        backwards = list(reversed(given))
+        wish = backwards[left - 1] if left <= len(backwards) else 0
+    return wish if wish < owed else owed
+
+
+def debt_of(unit, principal, units):
+    """A debt that stands so; with units below 0 there is no principal."""
+    debt = Debt(unit)
+    if units < 0:
+        debt.take(-(units // unit))
+        debt.grow(units % unit)
+    else:
+        debt.lend(principal)
+        debt.grow(units - unit * principal)
+    return debt

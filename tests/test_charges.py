@@ -6,6 +6,7 @@ from loanroll.counts import Bank, Count, Exact, Thirty, count_named
 from loanroll.days import day_of
 from loanroll.steps import table_of, value_at
 from loanroll.stills import joined, stands
+from tests.refusals import Tally
 
 END = 1000000
 GREAT = 10 ** 60 - 1
@@ -43,21 +44,6 @@ def added(one, other):
     """The table that is on each day the sum of the two."""
     days = sorted({row[0] for row in one + other})
     return [(day, value_at(one, day) + value_at(other, day)) for day in days]
-
-
-class Tally(Count):
-    """A plain count that keeps how often it was asked."""
-
-    def __init__(self):
-        self.asked = 0
-
-    def upto(self, day):
-        self.asked += 1
-        return Count.upto(self, day)
-
-    def weight(self, a, b):
-        self.asked += 1
-        return Count.weight(self, a, b)
 
 
 class Breaks(unittest.TestCase):
