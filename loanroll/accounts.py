@@ -1,6 +1,6 @@
 """Accounts: what the deeds and the charges of a book come to at a day."""
 
-from loanroll.arrears import running_sums
+from loanroll.arrears import late_sums, running_sums
 from loanroll.debts import Debt
 from loanroll.steps import begun, value_at
 from loanroll.stills import stands
@@ -22,7 +22,7 @@ def burdens(book):
     spans = book.stills()
     rates = book.rates()
     lates = book.lates()
-    asked_sums = running_sums([(row[0] + book.grace(), row[1]) for row in book.dues()])
+    asked_sums = late_sums(book)
     handed_sums = running_sums(book.pays())
     told = []
     for day in turning_days(book):
@@ -51,14 +51,15 @@ def charged(book, principal, a, b):
     return charged_by(book.count(), burdens(book), principal, a, b)
 
 
-def deeds_upto(book, day):
-    # Rows (day, lent, fees, turned, paid). The day itself has one, too: where it has no deeds, all are 0.
+def deeds_upto(book, days):
+    # Rows (day, lent, fees, turned, paid) of all that is done up to the last of these days. Each of them has one,
+    # too: where it has no deeds, all are 0.
     outs = dict(book.outs())
     fees = dict(book.fees())
     turns = dict([(turn, 1) for turn in book.turns()])
     pays = dict(book.pays())
-    days = sorted(set([deed for deed in book.deed_days() if deed < day] + [day]))
-    return [(deed, outs.get(deed, 0), fees.get(deed, 0), turns.get(deed, 0), pays.get(deed, 0)) for deed in days]
+    all_days = sorted(set([deed for deed in book.deed_days() if deed < days[-1]] + days))
+    return [(deed, outs.get(deed, 0), fees.get(deed, 0), turns.get(deed, 0), pays.get(deed, 0)) for deed in all_days]
 
 
 def do_deeds(debt, deeds):
@@ -83,8 +84,16 @@ def debts_behind(book, rows):
     return told
 
 
+def accounts_at(book, days):
+    # Of many days, rising, in one walk: from the first one on again for each would take far longer.
+    rows = deeds_upto(book, days)
+    debts = debts_behind(book, rows)
+    by_day = dict([(rows[place][0], debts[place]) for place in range(len(rows))])
+    return [by_day[day] for day in days]
+
+
 def account(book, day):
-    return debts_behind(book, deeds_upto(book, day))[-1]
+    return accounts_at(book, [day])[0]
 
 
 def owed(book, day):

@@ -41,6 +41,11 @@ def running_sums(rows):
     return told
 
 
+def late_sums(book):
+    # A due counts as late so many days behind the one on which it falls as grace tells.
+    return running_sums([(due[0] + book.grace(), due[1]) for due in book.dues()])
+
+
 def first_with(sums, day, total):
     # Ahead of the day enough may have been handed long since: it counts from the day on.
     if value_at(sums, day) >= total:

@@ -4,7 +4,7 @@ from loanroll.accounts import debts_behind, deeds_upto
 
 
 def statement(book, day):
-    deeds = deeds_upto(book, day)
+    deeds = deeds_upto(book, [day])
     debts = debts_behind(book, deeds)
     return [deeds[place] + (debts[place].principal(), debts[place].units()) for place in range(len(deeds))]
 

@@ -5,6 +5,8 @@ from loanroll.debts import Debt
 from loanroll.entries import Due, Fee, Late, Out, Pay, Rate, Still, Turn
 
 WORDS = ("out", "fee", "turn", "pay", "due", "rate", "late", "still")
+END = 1000000
+LAST = 999999
 
 
 class Hostile:
@@ -22,6 +24,23 @@ def other_things():
     """Things that are no whole numbers, new ones each time."""
     return [True, False, None, "", "1", "2000", [], [1], (), (1,), (2000, 1, 1), {}, {1: 1},
             1.0, 0.5, float("nan"), float("inf"), b"1", {1}, 1j, object(), int, Hostile()]
+
+
+def things_no_days():
+    """Things that are no days, new ones each time."""
+    return other_things() + [-1, -10 ** 30, END, 10 ** 30]
+
+
+def lists_of_no_days():
+    """Whatever is no list of one to 360 rising, unlike days, new ones each time."""
+    lists = [thing for thing in other_things() if not isinstance(thing, list)]
+    lists += [(30, 60), (30,), "30", {30: 60}, {30, 60}, range(30, 60), iter([30, 60]), 30, 0, -1, Hostile()]
+    lists += [[], list(range(361)), list(range(1000)), [-1], [-1, 5], [END], [5, END], [10 ** 30], [5, 5],
+              [5, 6, 6], [5, 5, 6], [6, 5], [5, 7, 6], [7, 5, 6], [0, 0], [LAST, LAST], [LAST, 0],
+              [[5]], [5, [6]], [(5, 6)], [5, None, 7], [True, 5], [False, 5], [0, True], [5, 6, True]]
+    for thing in other_things():
+        lists += [[thing], [5, thing], [thing, 5], [5, thing, 9]]
+    return lists
 
 
 def assert_refused(case, error, deed, *handed):
@@ -66,6 +85,20 @@ def some_entry(chance, word, days, first=0, size=1):
 
 def some_entries(chance, many, days, words=WORDS, first=0, size=1):
     return [some_entry(chance, chance.choice(words), days, first, size) for _ in range(many)]
+
+
+def some_days(chance, many, first, spread):
+    return sorted(chance.sample(range(first, first + spread), many))
+
+
+def rows_of(entries):
+    return [entry.row() for entry in entries]
+
+
+def told_by(book):
+    """All that a book tells, to see whether it stays."""
+    return (book.count(), book.grace(), book.entries(), rows_of(book.entries()), book.outs(), book.fees(), book.pays(),
+            book.turns(), book.rates(), book.lates(), book.stills(), book.dues(), book.deed_days())
 
 
 def fallen(rows):

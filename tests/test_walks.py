@@ -10,10 +10,9 @@ from loanroll.entries import Due, Entry, Fee, Late, Out, Pay, Rate, Still, Turn
 from loanroll.errors import NoDays, TooMany
 from loanroll.plans import Even, Parts, Plan, Steps
 from loanroll.walks import as_dues, as_pays, planned
-from tests.refusals import WORDS, DayByDay, Hostile, asked_by_words, assert_refused, other_things, some_entries
+from tests.refusals import (LAST, WORDS, DayByDay, asked_by_words, assert_refused, lists_of_no_days, rows_of, some_days,
+                            some_entries, told_by)
 
-END = 1000000
-LAST = 999999
 NAMES = ("plain", "bank", "thirty", "exact")
 KINDS = ("plain", "even", "parts", "steps")
 # By a rate of so many, 10000 cents are charged one cent a day where a year weighs 365.
@@ -43,10 +42,6 @@ def some_given(chance, kind, size, many):
     return [chance.randrange(30 * size) for _ in range(chance.randrange(many + 3))]
 
 
-def some_days(chance, many, first, spread):
-    return sorted(chance.sample(range(first, first + spread), many))
-
-
 def by_the_words(book, days, kind, given):
     """What [51] says, gone through day by day."""
     unit = book.count().unit()
@@ -63,10 +58,6 @@ def by_the_words(book, days, kind, given):
     first = min([entry.day for entry in book.entries()] + days)
     walk.accounts(days[-1], first, ask)
     return told
-
-
-def rows_of(entries):
-    return [entry.row() for entry in entries]
 
 
 def planned_books(seed, many, words=WORDS):
@@ -321,21 +312,10 @@ class Shapes(unittest.TestCase):
 
 
 class Refused(unittest.TestCase):
-    def lists_of_no_days(self):
-        wrong = other_things()
-        lists = [thing for thing in wrong if not isinstance(thing, list)]
-        lists += [(30, 60), (30,), "30", {30: 60}, {30, 60}, range(30, 60), iter([30, 60]), 30, 0, -1, Hostile()]
-        lists += [[], list(range(361)), list(range(1000)), [-1], [-1, 5], [END], [5, END], [10 ** 30], [5, 5],
-                  [5, 6, 6], [5, 5, 6], [6, 5], [5, 7, 6], [7, 5, 6], [0, 0], [LAST, LAST], [LAST, 0],
-                  [[5]], [5, [6]], [(5, 6)], [5, None, 7], [True, 5], [False, 5], [0, True], [5, 6, True]]
-        for thing in wrong:
-            lists += [[thing], [5, thing], [thing, 5], [5, thing, 9]]
-        return lists
-
     def test_whatever_is_no_list_of_days(self):
         for book in (book_of([]), loan(), book_of([Pay(3, 5)] * 500)):
             for plan in (Plan(), Steps([])):
-                for days in self.lists_of_no_days():
+                for days in lists_of_no_days():
                     assert_refused(self, NoDays, planned, book, days, plan)
 
     def test_from_one_to_360(self):
@@ -376,16 +356,12 @@ class Refused(unittest.TestCase):
 
 
 class Kept(unittest.TestCase):
-    def told_by(self, book):
-        return (book.entries(), rows_of(book.entries()), book.outs(), book.fees(), book.pays(), book.turns(),
-                book.rates(), book.lates(), book.stills(), book.dues(), book.deed_days(), owed(book, 100))
-
     def test_the_book_the_days_and_the_plan_stay(self):
         for book, days, kind, given in planned_books(141, 1):
-            kept, kept_days = self.told_by(book), list(days)
+            kept, kept_days = told_by(book), list(days)
             plan = plan_of(kind, given)
             first = planned(book, days, plan)
-            self.assertEqual((self.told_by(book), days), (kept, kept_days))
+            self.assertEqual((told_by(book), days), (kept, kept_days))
             self.assertEqual(planned(book, days, plan), first)
             self.assertEqual(planned(book, days, plan_of(kind, given)), first)
 
