@@ -12,7 +12,7 @@ MOST_ENTRIES = 500
 
 def check_terms(count, grace):
     if not isinstance(count, Count):
-        raise NoTerms("a book needs a count")
+        raise NoTerms("terms need a count")
     if not is_within(grace, 0, MOST_GRACE):
         raise NoTerms("grace is a whole number from 0 to 366")
 

@@ -5,6 +5,8 @@ from loanroll.days import is_day
 from loanroll.errors import NoDays
 from loanroll.walks import as_pays, check_days
 
+FIRST_GUESS = 1000000
+
 
 def paid_on(book, days, amount):
     return book.with_more(as_pays([(day, amount) for day in days]))
@@ -27,6 +29,12 @@ def least_paid(book, days, last):
     # What is owed without is enough, and where a sum is enough, so is each greater one: it is sought by halves.
     low = 0
     high = max(0, owed(book, last))
+    # That may have grown to hundreds of figures where a little, paid soon, is enough: so lesser sums are tried first.
+    guess = FIRST_GUESS
+    while guess < high and owed(paid_on(book, days, guess), last) > 0:
+        low = guess + 1
+        guess = guess * guess
+    high = min(high, guess)
     while low < high:
         middle = (low + high) // 2
         if owed(paid_on(book, days, middle), last) <= 0:

@@ -1,5 +1,7 @@
 """What the tests share: wrong things, refusals, entries by chance, and the document's words gone through day by day."""
 
+import datetime
+
 from loanroll.counts import Count
 from loanroll.debts import Debt
 from loanroll.entries import Due, Fee, Late, Out, Pay, Rate, Still, Turn
@@ -91,6 +93,44 @@ def some_days(chance, many, first, spread):
     return sorted(chance.sample(range(first, first + spread), many))
 
 
+def some_deeds(chance, many, numbers, days=40, first=0, size=1, known=0, words=WORDS):
+    """Deeds of a roll, (known, number, entry or None for a strike), each a good one, their knowns alike or rising."""
+    stands = set()
+    told = []
+    for _ in range(many):
+        known += chance.choice((0, 0, 1, 3))
+        number = chance.choice(numbers)
+        entry = some_entry(chance, chance.choice(words), days, first, size)
+        if number in stands and chance.randrange(3) == 0:
+            entry = None
+        stands = stands - {number} if entry is None else stands | {number}
+        told.append((known, number, entry))
+    return told
+
+
+def do_all(roll, deeds):
+    for known, number, entry in deeds:
+        if entry is None:
+            roll.strike(known, number)
+        else:
+            roll.put(known, number, entry)
+    return roll
+
+
+def standing_by_words(deeds, known):
+    """The numbers and their entries that stand as known on a day, by the words of [82]."""
+    told = []
+    for number in sorted({deed[1] for deed in deeds}):
+        own = [deed[2] for deed in deeds if deed[1] == number and deed[0] <= known]
+        if own and own[-1] is not None:
+            told.append((number, own[-1]))
+    return told
+
+
+def numbered_rows(standing):
+    return [(number, entry.row()) for number, entry in standing]
+
+
 def rows_of(entries):
     return [entry.row() for entry in entries]
 
@@ -99,6 +139,35 @@ def told_by(book):
     """All that a book tells, to see whether it stays."""
     return (book.count(), book.grace(), book.entries(), rows_of(book.entries()), book.outs(), book.fees(), book.pays(),
             book.turns(), book.rates(), book.lates(), book.stills(), book.dues(), book.deed_days())
+
+
+def told_by_roll(roll, numbers, knowns):
+    """What a roll tells of these numbers and as known on these days, to see whether it stays."""
+    told = [roll.knowns()]
+    for number in numbers:
+        told.append([(known, entry and entry.row()) for known, entry in roll.history(number)])
+    for known in knowns:
+        book = roll.book(known)
+        told.append((numbered_rows(roll.standing(known)), rows_of(book.entries()), book.count().name(), book.grace(),
+                     roll.owed(LAST, known)))
+    return told
+
+
+def date_text(day):
+    return (datetime.date(2000, 1, 1) + datetime.timedelta(days=day)).isoformat()
+
+
+def cents_text(cents):
+    figures = str(abs(cents)).rjust(3, "0")
+    return ("-" if cents < 0 else "") + figures[:-2] + "." + figures[-2:]
+
+
+def entry_text(row):
+    """The words of an entry's row, with blanks between."""
+    words = [row[0], date_text(row[1])]
+    if row[0] != "turn":
+        words.append(date_text(row[2]) if row[0] == "still" else cents_text(row[2]))
+    return " ".join(words)
 
 
 def fallen(rows):

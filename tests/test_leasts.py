@@ -8,8 +8,8 @@ from loanroll.counts import Count, count_named
 from loanroll.entries import Due, Fee, Late, Out, Pay, Rate, Still, Turn
 from loanroll.errors import NoDays, TooMany
 from loanroll.leasts import ends_on, least_even, least_once, with_pays
-from tests.refusals import (LAST, WORDS, DayByDay, assert_refused, lists_of_no_days, rows_of, some_days, some_entries,
-                            things_no_days, told_by)
+from tests.refusals import (LAST, WORDS, DayByDay, Tally, assert_refused, lists_of_no_days, rows_of, some_days,
+                            some_entries, things_no_days, told_by)
 
 NAMES = ("plain", "bank", "thirty", "exact")
 # By a rate of so many, 10000 cents are charged one cent a day where a year weighs 365.
@@ -235,6 +235,25 @@ class LeastEvenByHand(unittest.TestCase):
         self.assertEqual(least_even(book, [365 * years]), 10 ** 12 * 101 ** years)
         self.assertEqual(least_once(book, 365 * years, 365 * years), 10 ** 12 * 101 ** years)
         self.assertEqual(least_once(book, 0, 365 * years), 10 ** 12)
+
+    def test_a_little_paid_soon_where_what_is_owed_without_has_hundreds_of_figures(self):
+        turns = [Turn(2000 * place) for place in range(1, 498)]
+        for lent in (1, 999999, 10 ** 6, 10 ** 6 + 1, 10 ** 12 - 1, 10 ** 12):
+            tally = Tally()
+            book = Book(tally, 0, [Out(0, lent), Rate(0, 10 ** 6)] + turns)
+            if lent == 10 ** 12:
+                self.assertGreater(owed(book, LAST), 10 ** 1300)
+            self.assertEqual(least_once(book, 0, LAST), lent)
+            # Some forty halves of a million million, not thousands of them, each over five hundred stretches.
+            self.assertLess(tally.asked, 200 * 500 * 2)
+
+    def test_around_the_powers_of_ten(self):
+        for figures in (1, 5, 6, 7, 11, 12):
+            for lent in (10 ** figures - 1, 10 ** figures, min(10 ** 12, 10 ** figures + 1)):
+                book = book_of([Out(0, lent)])
+                self.assertEqual((least_once(book, 3, 9), least_even(book, [3, 9])), (lent, -(-lent // 2)))
+                much = book_of([Out(0, lent)] * 300)
+                self.assertEqual((least_once(much, 3, 9), least_even(much, [3, 9])), (300 * lent, 150 * lent))
 
     def test_kinds_of_what_is_told(self):
         for book in (loan(), book_of([])):
